@@ -1,0 +1,1 @@
+"""Throwruns: longest runs in rows of throws."""
