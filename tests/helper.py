@@ -1,6 +1,9 @@
 """What several test files need: things of all kinds, all short rows, refusals."""
 
+import copy
 import itertools
+
+from throwruns.errors import NoNumber
 
 FORTY_FIGURES = 10 ** 40 - 1
 
@@ -32,6 +35,22 @@ OTHER_THINGS = [
 NO_SIGNS = [-1, 3, 4, True, False, None, "0", "", [0], (0,), (), {}, {0: 0},
             FORTY_FIGURES, -FORTY_FIGURES, nested(8, list)]
 
+# None of these is a row of throws.
+NO_ROWS = OTHER_THINGS + [
+    (3,), (-1,), (0, 1, 2, 3), (0, -1), (0, 1, True), (None, 0), (0, "1"), ((0,), 1),
+    0, 1, 2, [1, 2], (1,) * 21, "0 1", "row 0 1",
+]
+
+# None of these is a die.
+NO_DICE = OTHER_THINGS + [
+    (), (1,), (1, 1, 1, 1), (0, 1), (1, 0), (10, 1), (1, 10), (1, 1, 10), (0, 1, 1), (1, 1, 0),
+    (-1, 1), (True, 1), (1, True), (1, 1, False), (None, 1), (1, "1"), "11", "1 1", [1, 2, 3], 2,
+]
+
+# None of these is a number of throws, of signs, or a length.
+NO_NUMBERS = [thing for thing in OTHER_THINGS if type(thing) is not int] + [
+    -1, -2, FORTY_FIGURES, -FORTY_FIGURES, "2", "40", (2,), [2], {2: 2}, (1, 1), (2, 1), [[2]]]
+
 
 def short_rows(most, signs=3):
     """All rows of at most so many throws."""
@@ -45,3 +64,80 @@ def refused_with(case, error, function, *arguments):
         function(*arguments)
     case.assertIs(type(caught.exception), error)
     return caught.exception
+
+
+def runs_by_the_words(row):
+    """All (sign, begin, length) for which the words of 1.3 hold."""
+    runs = []
+    for begin in range(len(row)):
+        for end in range(begin + 1, len(row) + 1):
+            sign = row[begin]
+            ahead = begin > 0 and row[begin - 1] == sign
+            behind = end < len(row) and row[end] == sign
+            if set(row[begin:end]) == {sign} and not ahead and not behind:
+                runs.append((sign, begin, end - begin))
+    return runs
+
+
+def ring_runs_by_the_words(row):
+    """All (sign, begin, length) for which the words of 1.4 hold."""
+    many = len(row)
+    if many == 0:
+        return []
+    if len(set(row)) == 1:
+        return [(row[0], 0, many)]
+    runs = []
+    for begin in range(many):
+        for length in range(1, many):
+            sign = row[begin]
+            shown = {row[(begin + step) % many] for step in range(length)}
+            around = (row[begin - 1], row[(begin + length) % many])
+            if shown == {sign} and sign not in around:
+                runs.append((sign, begin, length))
+    return runs
+
+
+def greatest(runs, signs):
+    """The greatest length of the runs of these signs."""
+    return max([run[2] for run in runs if run[0] in signs], default=0)
+
+
+def refused_at_each_place(case, function, good, wrong):
+    """Check what is refused, one thing wrong or two at once: the left one goes.
+
+    For each argument, wrong has the class of the refusal and a list of things.
+    """
+    function(*good)
+    for at, (error, things) in enumerate(wrong):
+        for thing in things:
+            with case.subTest(function=function.__name__, at=at, thing=thing):
+                kept = copy.deepcopy(thing)
+                refused_with(case, error, function, *good[:at], thing, *good[at + 1:])
+                for behind in range(at + 1, len(good)):
+                    for other in wrong[behind][1][:4] + wrong[behind][1][-4:]:
+                        handed = list(good)
+                        handed[at], handed[behind] = thing, other
+                        refused_with(case, error, function, *handed)
+                case.assertEqual(thing, kept)
+    function(*good)
+
+
+def own_list(case, function, *arguments):
+    """Check that a list is told anew: what is done to it changes no later answer."""
+    told = function(*arguments)
+    case.assertIs(type(told), list)
+    kept = list(told)
+    told.append("more")
+    told.reverse()
+    case.assertEqual(function(*arguments), kept)
+    function(*arguments).clear()
+    case.assertEqual(function(*arguments), kept)
+
+
+def in_range_else_refused(case, function, good, at, low, high):
+    """Check that an argument may be each number from low to high and no other."""
+    for number in range(low, high + 1):
+        function(*good[:at], number, *good[at + 1:])
+    for number in (low - 1, low - 2, high + 1, high + 2, 10 * high + 10):
+        with case.subTest(function=function.__name__, at=at, number=number):
+            refused_with(case, NoNumber, function, *good[:at], number, *good[at + 1:])

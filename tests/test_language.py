@@ -43,6 +43,37 @@ class LanguageTest(unittest.TestCase):
                     if isinstance(node.value, str):
                         self.assertNotIn("%", node.value, path.name)
 
+    def test_loops_powers_and_parameters(self):
+        for path in FILES:
+            for node in ast.walk(ast.parse(path.read_text(encoding="utf-8"))):
+                case = (path.name, getattr(node, "lineno", None))
+                if isinstance(node, (ast.For, ast.While)):
+                    self.assertEqual(node.orelse, [], case)
+                if isinstance(node, ast.BinOp) and isinstance(node.op, ast.Pow):
+                    self.assertIsInstance(node.right, ast.Constant, case)
+                if isinstance(node, ast.arguments):
+                    self.assertEqual((node.vararg, node.kwarg, node.posonlyargs), (None, None, []), case)
+                if isinstance(node, ast.Compare) and isinstance(node.ops[0], (ast.Is, ast.IsNot)):
+                    self.assertIn(getattr(node.comparators[0], "value", "other"), (None, True, False), case)
+                if isinstance(node, ast.Call):
+                    self.assertNotIn(getattr(node.func, "id", None), ("chr", "print", "open", "map", "filter"), case)
+
+    def test_names_are_imported_from_where_they_are_defined(self):
+        defined = {}
+        for path in FILES:
+            names = set()
+            for node in ast.parse(path.read_text(encoding="utf-8")).body:
+                if isinstance(node, (ast.FunctionDef, ast.ClassDef)):
+                    names.add(node.name)
+                if isinstance(node, ast.Assign):
+                    names.update([target.id for target in node.targets])
+            defined[f"throwruns.{path.stem}"] = names
+        for path in FILES:
+            for node in ast.walk(ast.parse(path.read_text(encoding="utf-8"))):
+                if isinstance(node, ast.ImportFrom):
+                    for name in node.names:
+                        self.assertIn(name.name, defined[node.module], path.name)
+
 
 if __name__ == "__main__":
     unittest.main()

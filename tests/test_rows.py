@@ -4,8 +4,8 @@ import copy
 import itertools
 import unittest
 
-from tests.helper import (FORTY_FIGURES, NO_SIGNS, OTHER_THINGS, nested,
-                          refused_with, short_rows)
+from tests.helper import (FORTY_FIGURES, NO_ROWS, NO_SIGNS, OTHER_THINGS, greatest, nested,
+                          refused_with, ring_runs_by_the_words, runs_by_the_words, short_rows)
 from throwruns.errors import NoNumber, NoRow
 from throwruns.rows import (die_good, longest, longest_any, ring_longest,
                             ring_runs, row_good, runs_of)
@@ -15,45 +15,6 @@ LONG_ROWS = [
     (0,) * 20, (2,) * 20, (0, 1) * 10, (1,) * 19 + (0,), (0,) + (1,) * 19,
     (0, 0, 1, 1, 2, 2, 2, 0, 1, 0, 0, 0, 0, 2, 1, 1, 1, 2, 0, 0), (2, 1, 0) * 6 + (2, 2),
 ]
-NO_ROWS = OTHER_THINGS + [
-    (3,), (-1,), (0, 1, 2, 3), (0, -1), (0, 1, True), (None, 0), (0, "1"), ((0,), 1),
-    0, 1, 2, [1, 2], (1,) * 21, "0 1", "row 0 1",
-]
-
-
-def runs_by_the_words(row):
-    """All (sign, begin, length) for which the words of 1.3 hold."""
-    runs = []
-    for begin in range(len(row)):
-        for end in range(begin + 1, len(row) + 1):
-            sign = row[begin]
-            ahead = begin > 0 and row[begin - 1] == sign
-            behind = end < len(row) and row[end] == sign
-            if set(row[begin:end]) == {sign} and not ahead and not behind:
-                runs.append((sign, begin, end - begin))
-    return runs
-
-
-def ring_runs_by_the_words(row):
-    """All (sign, begin, length) for which the words of 1.4 hold."""
-    many = len(row)
-    if many == 0:
-        return []
-    if len(set(row)) == 1:
-        return [(row[0], 0, many)]
-    runs = []
-    for begin in range(many):
-        for length in range(1, many):
-            sign = row[begin]
-            shown = {row[(begin + step) % many] for step in range(length)}
-            around = (row[begin - 1], row[(begin + length) % many])
-            if shown == {sign} and sign not in around:
-                runs.append((sign, begin, length))
-    return runs
-
-
-def greatest(runs, signs):
-    return max([run[2] for run in runs if run[0] in signs], default=0)
 
 
 class DieGoodTest(unittest.TestCase):

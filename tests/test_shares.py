@@ -59,6 +59,11 @@ class SharesTest(unittest.TestCase):
                 self.check(shares.share_by(one, other), left / right)
             self.assertIs(shares.share_below(one, other), left < right)
 
+    def test_whole_power(self):
+        for base in (-2, -1, 0, 1, 2, 3, 27):
+            for exponent in (0, 1, 2, 3, 40):
+                self.assertEqual(shares.whole_power(base, exponent), base ** exponent)
+
     def test_power(self):
         for share in SOME:
             for exponent in (0, 1, 2, 3, 7, 40):

@@ -1,24 +1,25 @@
 """Dice, rows of throws, and their runs in a row and on a ring."""
 
-from throwruns.errors import NoNumber, NoRow
+from throwruns.errors import NoDie, NoNumber, NoRow
 from throwruns.shares import is_whole_within
 
+LEAST_SIGNS = 2
+MOST_SIGNS = 3
 LEAST_WEIGHT = 1
 MOST_WEIGHT = 9
-LAST_SIGN = 2
 MOST_THROWS = 20
 
 
 def die_good(thing):
     """Whether whatever is handed in is a die."""
-    if not isinstance(thing, tuple) or len(thing) not in (2, 3):
+    if not isinstance(thing, tuple) or not LEAST_SIGNS <= len(thing) <= MOST_SIGNS:
         return False
     return all([is_whole_within(weight, LEAST_WEIGHT, MOST_WEIGHT) for weight in thing])
 
 
 def sign_good(thing):
     """Whether whatever is handed in is a sign that a row may have."""
-    return is_whole_within(thing, 0, LAST_SIGN)
+    return is_whole_within(thing, 0, MOST_SIGNS - 1)
 
 
 def row_good(thing):
@@ -28,16 +29,32 @@ def row_good(thing):
     return all([sign_good(sign) for sign in thing])
 
 
+def need_die(thing):
+    """Refuse what is no die."""
+    if not die_good(thing):
+        raise NoDie()
+
+
 def need_row(thing):
     """Refuse what is no row of throws."""
     if not row_good(thing):
         raise NoRow()
 
 
-def need_sign(thing):
-    """Refuse what is no sign that a row may have."""
-    if not sign_good(thing):
+def need_number(thing, low, high):
+    """Refuse what is no whole number from low to high."""
+    if not is_whole_within(thing, low, high):
         raise NoNumber()
+
+
+def need_signs(thing):
+    """Refuse what is no number of signs that a die may have."""
+    need_number(thing, LEAST_SIGNS, MOST_SIGNS)
+
+
+def need_sign(thing, signs):
+    """Refuse what is none of so many signs."""
+    need_number(thing, 0, signs - 1)
 
 
 def greatest_length(runs):
@@ -65,7 +82,7 @@ def runs_of(row):
 def longest(row, sign):
     """The greatest length of the row's runs of this sign, 0 where there is none."""
     need_row(row)
-    need_sign(sign)
+    need_sign(sign, MOST_SIGNS)
     return greatest_length(runs_of_sign(runs_of(row), sign))
 
 
@@ -87,5 +104,5 @@ def ring_runs(row):
 def ring_longest(row, sign):
     """The greatest length of the ring runs of this sign, 0 where there is none."""
     need_row(row)
-    need_sign(sign)
+    need_sign(sign, MOST_SIGNS)
     return greatest_length(runs_of_sign(ring_runs(row), sign))

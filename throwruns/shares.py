@@ -27,6 +27,14 @@ def greatest_divisor(one, other):
     return one
 
 
+def whole_power(base, exponent):
+    """A whole number to the power of a number from 0 on."""
+    power = 1
+    for step in range(exponent):
+        power *= base
+    return power
+
+
 def share_good(thing):
     """Whether whatever is handed in is a share."""
     if not isinstance(thing, tuple) or len(thing) != 2:
