@@ -2,6 +2,7 @@
 
 import copy
 import itertools
+import math
 
 from throwruns.errors import NoNumber
 
@@ -50,6 +51,56 @@ NO_DICE = OTHER_THINGS + [
 # None of these is a number of throws, of signs, or a length.
 NO_NUMBERS = [thing for thing in OTHER_THINGS if type(thing) is not int] + [
     -1, -2, FORTY_FIGURES, -FORTY_FIGURES, "2", "40", (2,), [2], {2: 2}, (1, 1), (2, 1), [[2]]]
+
+
+# What may stand in place of a part of a thing.
+PARTS = [None, True, False, -1, 0, 1, 2, 3, 7, 9, 10, 12, 13, FORTY_FIGURES, -FORTY_FIGURES, "", "1", "ok",
+         [], [0], (), (0,), (1, 2), (2, 4), {}, {0: 0}]
+
+
+def otherwise(thing, parts=PARTS):
+    """Things with one thing otherwise than in a list or tuple, at each place and how deep it may be."""
+    yield from parts
+    if isinstance(thing, (list, tuple)):
+        kind = type(thing)
+        yield list(thing) if kind is tuple else tuple(thing)
+        yield from [thing[1:], thing[:-1], thing[::-1], thing + thing, kind([thing]), dict(enumerate(thing))]
+        for part in list(parts) + list(thing):
+            yield thing + kind([part])
+            yield kind([part]) + thing
+        for at, part in enumerate(thing):
+            for other in otherwise(part, parts):
+                yield thing[:at] + kind([other]) + thing[at + 1:]
+
+
+def good_as_by_the_words(case, function, by_the_words, things):
+    """Check a function that tells of whatever is handed in whether it is good; nothing is changed."""
+    many = {True: 0, False: 0}
+    for thing in things:
+        kept = copy.deepcopy(thing)
+        wanted = by_the_words(thing)
+        case.assertIs(function(thing), wanted, thing)
+        case.assertEqual(repr(thing), repr(kept))
+        many[wanted] += 1
+    case.assertGreater(min(many.values()), 0)
+
+
+def asked_again(case, questions, between):
+    """Check that questions (function, arguments ..) have the same answers again, whatever was asked in between."""
+    first = [question[0](*question[1:]) for question in questions]
+    kept = copy.deepcopy(first)
+    for error, function, *arguments in between:
+        refused_with(case, error, function, *arguments)
+    again = [question[0](*question[1:]) for question in reversed(questions)]
+    case.assertEqual(again[::-1], kept)
+    case.assertEqual(first, kept)
+
+
+def is_share_by_the_words(thing):
+    """Whether a thing is a share, as 0.3 tells."""
+    if type(thing) is not tuple or [type(number) for number in thing] != [int, int]:
+        return False
+    return thing[1] > 0 and math.gcd(thing[0], thing[1]) == 1
 
 
 def short_rows(most, signs=3):

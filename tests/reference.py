@@ -99,3 +99,36 @@ def kinds_by_the_words(signs, many):
             met.update([row[t:] + row[:t] for t in range(many)])
             kinds.append((row, greatest(ring_runs_by_the_words(row), (0,))))
     return kinds
+
+
+def solved(names, equations):
+    """The values x of the names for which x of each name is a number and the sum of factors times others.
+
+    The equations have, for each name, the tuple (number, dict of factors by name).
+    """
+    rows = [[Fraction(int(name == other)) - Fraction(equations[name][1].get(other, 0)) for other in names]
+            + [Fraction(equations[name][0])] for name in names]
+    for at in range(len(names)):
+        pivot = [row for row in rows[at:] if row[at] != 0][0]
+        rows.remove(pivot)
+        rows.insert(at, [number / pivot[at] for number in pivot])
+        for other, row in enumerate(rows):
+            if other != at:
+                rows[other] = [number - row[at] * more for number, more in zip(row, rows[at])]
+    return {name: row[-1] for name, row in zip(names, rows)}
+
+
+def first_coming(row, sign, k):
+    """The throw, counted from 1, at which k throws of the sign first stand side by side; None where they do not."""
+    for end in range(k, len(row) + 1):
+        if row[end - k:end] == (sign,) * k:
+            return end
+    return None
+
+
+def who_first(row, sign, k, other, length):
+    """The sign whose run comes first in a row; None where none comes."""
+    one, two = first_coming(row, sign, k), first_coming(row, other, length)
+    if one is None and two is None:
+        return None
+    return sign if two is None or (one is not None and one < two) else other
