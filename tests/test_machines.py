@@ -395,7 +395,8 @@ class RefusalsTest(unittest.TestCase):
             no_die = NO_DICE + [(1,) * (5 - m), (1, 2, 3)[:5 - m]]
             for function in (stands_of, takes):
                 refused_at_each_place(self, function, (machine, (0, 1)), [(NoMachine, NO_MACHINES), (NoRow, no_row)])
-            refused_at_each_place(self, taken_many, (machine, 4), [(NoMachine, NO_MACHINES), (NoNumber, NO_TAKEN_NUMBER)])
+            refused_at_each_place(self, taken_many, (machine, 4),
+                                  [(NoMachine, NO_MACHINES), (NoNumber, NO_TAKEN_NUMBER)])
             refused_at_each_place(self, taken_share, (machine, die, 4),
                                   [(NoMachine, NO_MACHINES), (NoDie, no_die), (NoNumber, NO_TAKEN_NUMBER)])
             for function in (contrary, least):

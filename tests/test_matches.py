@@ -6,7 +6,7 @@ import unittest
 
 from tests.helper import (FORTY_FIGURES, NO_DICE, NO_NUMBERS, NO_ROWS, OTHER_THINGS, asked_again,
                           good_as_by_the_words, in_range_else_refused, is_share_by_the_words, otherwise, own_list,
-                          refused_at_each_place, refused_with)
+                          refused_at_each_place, refused_with, short_rows)
 from tests.reference import as_fraction, as_share, die_shares, solved, weight_of, who_first
 from throwruns.comings import mean_first, within_share
 from throwruns.errors import NoLine, NoNumber
@@ -145,7 +145,7 @@ class StandsTest(unittest.TestCase):
     def test_against_short_rows(self):
         for match in SOME:
             if match[2] + match[4] <= 6:
-                met = {stand_of(match, row) for n in range(6) for row in itertools.product(range(len(match[0])), repeat=n)
+                met = {stand_of(match, row) for row in short_rows(5, len(match[0]))
                        if who_first(row, *match[1:]) is None}
                 self.assertEqual(met | {(None, 0)}, set(stands_list(match)), match)
 

@@ -29,6 +29,11 @@ def row_good(thing):
     return all([sign_good(sign) for sign in thing])
 
 
+def row_good_of(thing, signs):
+    """Whether whatever is handed in is a row of throws of so many signs."""
+    return row_good(thing) and all([sign < signs for sign in thing])
+
+
 def need_die(thing):
     """Refuse what is no die."""
     if not die_good(thing):
